@@ -1,0 +1,1 @@
+"""Timecourt: sentences of time, judged over worlds."""
