@@ -111,6 +111,28 @@ class Language(unittest.TestCase):
                 if not any(isinstance(thing, ast.Constant) and repr(thing.value) in PLAIN for thing in beside):
                     self.wrong(path, node, "L20")
 
+    def test_methods_and_values(self):
+        methods = {one.name for _, node in nodes() if isinstance(node, ast.ClassDef)
+                   for one in node.body if isinstance(one, ast.FunctionDef)}
+        values = {node.attr: (path, node) for path, node in nodes()
+                  if isinstance(node, ast.Attribute) and isinstance(node.ctx, ast.Store)}
+        taken = {name for kind in (str, int, list, tuple, dict, set, bytes) for name in dir(kind)}
+        for name in (methods | set(values)) - {"__init__"}:
+            self.assertNotIn(name, taken, "L26")
+        for name, (path, node) in values.items():
+            if name in methods:
+                self.wrong(path, node, f"L18: {name}")
+
+    def test_texts_in_braces_have_no_format(self):
+        for path, node in nodes():
+            if isinstance(node, ast.FormattedValue) and node.format_spec is not None:
+                self.wrong(path, node, "L7")
+
+    def test_powers_have_written_exponents(self):
+        for path, node in nodes():
+            if isinstance(node, ast.BinOp) and isinstance(node.op, ast.Pow) and not isinstance(node.right, ast.Constant):
+                self.wrong(path, node, "L27")
+
 
 if __name__ == "__main__":
     unittest.main()

@@ -1,4 +1,4 @@
-"""What whole numbers, names and rooms are, for all that takes them in."""
+"""What whole numbers, names and rooms are, and other small things that several modules need."""
 
 LETTERS = "abcdefghijklmnopqrstuvwxyz"
 MOST_LETTERS = 8
@@ -31,3 +31,11 @@ def are_names(thing):
 def are_rooms(thing, many):
     """Whether a thing is a list of rooms, which may come again."""
     return isinstance(thing, list) and all([is_room(room, many) for room in thing])
+
+
+def last_ones(things, many):
+    """Takes so many things away from a list's end, and tells them in their order."""
+    start = len(things) - many
+    taken = things[start:]
+    del things[start:]
+    return taken

@@ -1,0 +1,215 @@
+"""What the tests share: slow readings by the words of the document, and samples of worlds and sentences."""
+
+import itertools
+import random
+
+from timecourt.worlds import World
+
+NAMES = ["a", "b", "c"]
+
+# Things that are no sentence, no paper, no rank and no loop.
+THINGS = (None, True, False, 0, 1, -1, "", "yes", "a", b"yes", [], ["yes"], {}, {"yes": 1}, (), ((),), (None,), (0,),
+          set(), frozenset(), object(), len, int, range(3))
+
+
+def room_at(run, place):
+    way, ring = run
+    return way[place] if place < len(way) else ring[(place - len(way)) % len(ring)]
+
+
+def looks_back(sentence):
+    """How many words of a sentence look back, as often as they stand."""
+    if not isinstance(sentence, tuple):
+        return 0
+    return (sentence[:1] in (("before",), ("since",), ("once",), ("sofar",))) + sum(looks_back(one) for one in sentence)
+
+
+class Slow:
+    """Sentences read on a run by the very words of [7], place by place, each place by itself."""
+
+    def __init__(self, world, run, sets, sentence):
+        self.world, self.run, self.sets = world, run, dict(sets)
+        # From here on all comes again; so what is so later at all is so within one more round.
+        self.settled = len(run[0]) + len(run[1]) * (looks_back(sentence) + 1)
+        self.known = {}
+
+    def later(self, place):
+        return range(place, max(place, self.settled) + len(self.run[1]) + 1)
+
+    def so(self, sentence, place):
+        key = (sentence, place)
+        if key not in self.known:
+            self.known[key] = self.reckoned(sentence, place)
+        return self.known[key]
+
+    def up_to(self, places, w, v):
+        """v is so at one of the places, and w at all of them ahead of it."""
+        for at in places:
+            if self.so(v, at):
+                return True
+            if not self.so(w, at):
+                return False
+        return False
+
+    def reckoned(self, sentence, place):
+        word, *inner = sentence
+        if word == "yes":
+            return True
+        if word == "sign":
+            return inner[0] in self.world.signs_of(room_at(self.run, place))
+        if word == "some":
+            return room_at(self.run, place) in self.sets[sentence]
+        if word == "not":
+            return not self.so(inner[0], place)
+        if word == "and":
+            return all(self.so(one, place) for one in inner[0])
+        if word == "or":
+            return any(self.so(one, place) for one in inner[0])
+        if word == "next":
+            return self.so(inner[0], place + 1)
+        if word == "until":
+            return self.up_to(self.later(place), inner[0], inner[1])
+        if word == "within":
+            return self.up_to(range(place, place + inner[0] + 1), inner[1], inner[2])
+        if word == "always":
+            return all(self.so(inner[0], at) for at in self.later(place))
+        if word == "ever":
+            return any(self.so(inner[0], at) for at in self.later(place))
+        if word == "before":
+            return place > 0 and self.so(inner[0], place - 1)
+        if word == "since":
+            return self.up_to(range(place, -1, -1), inner[0], inner[1])
+        if word == "once":
+            return any(self.so(inner[0], at) for at in range(place + 1))
+        if word == "sofar":
+            return all(self.so(inner[0], at) for at in range(place + 1))
+        raise AssertionError(word)
+
+
+def slowly(world, run, sentence, sets, many):
+    slow = Slow(world, run, sets, sentence)
+    return [slow.so(sentence, place) for place in range(many)]
+
+
+def some_world(dice, most, fair=0):
+    many = dice.randint(1, most)
+    signs = [[name for name in NAMES if dice.randrange(2)] for _ in range(many)]
+    ways = [dice.sample(range(many), dice.randint(1, min(many, 3))) for _ in range(many)]
+    starts = dice.sample(range(many), dice.randint(1, many))
+    return World(signs, ways, starts, dice.sample(NAMES, fair))
+
+
+def some_run(dice, world):
+    """A run from a room at hand: on and on, until a room comes again."""
+    rooms = [dice.randrange(world.many())]
+    while True:
+        rooms.append(dice.choice(world.ways_on(rooms[-1])))
+        if rooms[-1] in rooms[:-1] and dice.randrange(2):
+            first = dice.choice([at for at, room in enumerate(rooms[:-1]) if room == rooms[-1]])
+            return rooms[:first], rooms[first:-1]
+
+
+ONE = ("not", "next", "always", "ever", "before", "once", "sofar")
+TWO = ("until", "since")
+
+
+def some_sentence(dice, deep, words=ONE + TWO + ("and", "or", "within")):
+    """A sentence of ways without quantifiers, unless they are among the words."""
+    if deep == 0 or dice.randrange(8) == 0:
+        return dice.choice([("yes",)] + [("sign", name) for name in NAMES] * 2)
+    word = dice.choice(words)
+    if word in ("and", "or"):
+        return (word, tuple(some_sentence(dice, deep - 1, words) for _ in range(dice.choice((0, 1, 2, 2, 2, 3)))))
+    if word == "within":
+        return (word, dice.randint(0, 3), some_sentence(dice, deep - 1, words), some_sentence(dice, deep - 1, words))
+    return (word,) + tuple(some_sentence(dice, deep - 1, words) for _ in range(2 if word in TWO else 1))
+
+
+def dice_of(number):
+    return random.Random(number)
+
+
+def chain(word, many, inner=("sign", "a")):
+    """A sentence many words deep."""
+    for _ in range(many):
+        inner = (word, inner)
+    return inner
+
+
+def all_bits(many):
+    return list(itertools.product((False, True), repeat=many))
+
+
+def ring_world(many, signs, fair=()):
+    """A world with one way, round all its rooms."""
+    return World(signs, [[(room + 1) % many] for room in range(many)], [0], list(fair))
+
+
+def full_world(signs, fair=()):
+    """A world with ways from each room to each."""
+    many = len(signs)
+    return World(signs, [list(range(many)) for _ in range(many)], [0], list(fair))
+
+
+def inner_once(core):
+    """The inner parts of a core, each once, inner ones ahead, the left one first."""
+    word, *inner = core
+    found = []
+    if word not in ("yes", "sign", "some"):
+        for one in (inner[0] if word == "and" else inner):
+            found += inner_once(one)
+    return list(dict.fromkeys(found + [core]))
+
+
+class SlowWishes:
+    """Wish rooms by the very words of [10], [11], [12]."""
+
+    def __init__(self, world, core, sets):
+        self.world, self.core, self.sets = world, core, dict(sets)
+        self.wishes = [part for part in inner_once(core) if part[0] in ("next", "until", "before", "since")]
+
+    def so(self, node, part):
+        room, bits = node
+        word, *inner = part
+        if word == "yes":
+            return True
+        if word == "sign":
+            return inner[0] in self.world.signs_of(room)
+        if word == "some":
+            return room in self.sets[part]
+        if word == "not":
+            return not self.so(node, inner[0])
+        if word == "and":
+            return self.so(node, inner[0][0]) and self.so(node, inner[0][1])
+        bit = bits[self.wishes.index(part)]
+        if word in ("next", "before"):
+            return bit
+        return self.so(node, inner[1]) or (self.so(node, inner[0]) and bit)
+
+    def leads(self, one, other):
+        if other[0] not in self.world.ways_on(one[0]):
+            return False
+        for part, bit, more in zip(self.wishes, one[1], other[1]):
+            if part[0] == "next" and bit != self.so(other, part[1]):
+                return False
+            if part[0] == "until" and bit != self.so(other, part):
+                return False
+            if part[0] == "before" and more != self.so(one, part[1]):
+                return False
+            if part[0] == "since" and more != self.so(one, part):
+                return False
+        return True
+
+    def nodes(self):
+        return [(room, bits) for room in range(self.world.many()) for bits in all_bits(len(self.wishes))]
+
+    def leads_to(self, node):
+        return [other for other in self.nodes() if self.leads(node, other)]
+
+    def beginnings(self, room):
+        return [node for node in self.nodes() if node[0] == room and self.so(node, self.core) and not any(
+            bit for part, bit in zip(self.wishes, node[1]) if part[0] in ("before", "since"))]
+
+    def marks(self, node):
+        untils = [not self.so(node, part) or self.so(node, part[2]) for part in self.wishes if part[0] == "until"]
+        return untils + [sign in self.world.signs_of(node[0]) for sign in self.world.fair_signs()]
