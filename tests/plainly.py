@@ -213,3 +213,97 @@ class SlowWishes:
     def marks(self, node):
         untils = [not self.so(node, part) or self.so(node, part[2]) for part in self.wishes if part[0] == "until"]
         return untils + [sign in self.world.signs_of(node[0]) for sign in self.world.fair_signs()]
+
+
+def some_net(dice, most, marks_at_most=3):
+    """A net of a few nodes with marks and begins; nodes are numbers, texts, tuples."""
+    nodes = dice.sample([0, 1, 2, 3, "a", "b", (0, 1), (True, False), (0, (False, True)), None, b"x"], dice.randint(1, most))
+    net = {node: [other for other in nodes if dice.random() < 0.25] for node in nodes}
+    many = dice.randint(0, marks_at_most)
+    marks = {node: [dice.random() < 0.5 for _ in range(many)] for node in nodes}
+    return net, marks, dice.sample(nodes, dice.randint(0, min(3, len(nodes))))
+
+
+def comes_from(net, begins):
+    """All nodes to which one gets from the begins, themselves too."""
+    found = list(dict.fromkeys(begins))
+    for node in found:
+        found += [further for further in dict.fromkeys(net[node]) if further not in found]
+    return found
+
+
+def has_full_loop(net, marks, begins):
+    """Whether there is a full loop: from some node that is reached one gets back to it, and on the way round to each mark."""
+    for node in comes_from(net, begins):
+        round_it = comes_from(net, net[node])
+        if node in round_it:
+            ring = [other for other in round_it if node in comes_from(net, [other])]
+            if all(any(marks[other][number] for other in ring) for number in range(len(marks[node]))):
+                return True
+    return False
+
+
+def is_loop_by_words(net, marks, begins, way, ring):
+    """[14] by its words, of lists of nodes."""
+    row = way + ring
+    return (len(ring) > 0 and row[0] in begins and all(two in net[one] for one, two in zip(row, row[1:] + ring[:1]))
+            and all(any(marks[node][number] for node in ring) for number in range(len(marks[ring[0]]))))
+
+
+def closes_by_words(net, marks, begins, ranks, lacks):
+    """[16] by its words, of ranks and lacks that are dicts of nodes and numbers."""
+    return (set(ranks.values()) == set(lacks)
+            and all(begin in ranks for begin in begins)
+            and all(further in ranks and ranks[further] <= ranks[node] for node in ranks for further in net[node])
+            and not any(lacks[ranks[node]] is None and ranks[further] == ranks[node] for node in ranks for further in net[node])
+            and not any(lacks[ranks[node]] is not None and marks[node][lacks[ranks[node]]] for node in ranks))
+
+
+def all_runs(world, room, most):
+    """All runs from a room with at most so many rooms in way and ring."""
+    rows = [[room]]
+    while rows:
+        row = rows.pop()
+        for first in range(len(row)):
+            if row[first] in world.ways_on(row[-1]):
+                yield row[:first], row[first:]
+        if len(row) < most:
+            rows += [row + [further] for further in world.ways_on(row[-1])]
+
+
+def slow_loop(world, core, sets, rooms):
+    """Whether a fair way begins at one of the rooms on which a core is so, by [12]."""
+    slow = SlowWishes(world, core, sets)
+    net = {node: slow.leads_to(node) for node in slow.nodes()}
+    marks = {node: slow.marks(node) for node in slow.nodes()}
+    return has_full_loop(net, marks, [node for room in rooms for node in slow.beginnings(room)])
+
+
+def slow_sets(world, core):
+    """The sets of all somes in a core, inner ones ahead."""
+    sets = {}
+    for some in somes_in(core):
+        sets[some] = [room for room in range(world.many()) if slow_loop(world, some[1], list(sets.items()), [room])]
+    return list(sets.items())
+
+
+def somes_in(core):
+    """The somes in a core, each once, inner ones ahead, the left one first."""
+    if not isinstance(core, tuple):
+        return []
+    found = [some for one in core for some in somes_in(one)]
+    return list(dict.fromkeys(found + ([core] if core[:1] == ("some",) else [])))
+
+
+def slow_rooms(world, core):
+    """The rooms where a core of rooms is so."""
+    slow = SlowWishes(world, core, slow_sets(world, core))
+    return [room for room in range(world.many()) if slow.so((room, ()), core)]
+
+
+def few_wishes(world, core, most=16):
+    """Whether the wish rooms of a core and of all its somes are few enough for the slow readings."""
+    for one in [core] + [some[1] for some in somes_in(core)]:
+        if world.many() * 2 ** len(SlowWishes(world, one, []).wishes) > most:
+            return False
+    return True

@@ -22,6 +22,8 @@ BARRED_FORMS = (ast.With, ast.Match, ast.Global, ast.Nonlocal, ast.Yield, ast.Yi
 
 PLAIN = ("None", "True", "False")
 
+WALKERS = ("list", "tuple", "dict", "sorted", "sum", "any", "all", "enumerate", "zip", "bytes", "min", "max", "join")
+
 TOP_FORMS = (ast.ImportFrom, ast.FunctionDef, ast.ClassDef, ast.Assign, ast.AnnAssign)
 
 
@@ -35,6 +37,15 @@ def trees():
 
 def nodes():
     return [(path, node) for path, tree in trees() for node in ast.walk(tree)]
+
+
+def below():
+    """Each node with the one straight above it."""
+    return [(path, node, above) for path, above in nodes() for node in ast.iter_child_nodes(above)]
+
+
+def name_of(func):
+    return func.id if isinstance(func, ast.Name) else func.attr if isinstance(func, ast.Attribute) else None
 
 
 class Language(unittest.TestCase):
@@ -132,6 +143,22 @@ class Language(unittest.TestCase):
         for path, node in nodes():
             if isinstance(node, ast.BinOp) and isinstance(node.op, ast.Pow) and not isinstance(node.right, ast.Constant):
                 self.wrong(path, node, "L27")
+
+    def test_walked_at_once(self):
+        walked = ("zip", "range", "enumerate", "reversed", "items", "keys", "values")
+        for path, node, above in below():
+            if isinstance(node, ast.Call) and name_of(node.func) in walked:
+                looped = isinstance(above, (ast.For, ast.comprehension)) and above.iter is node
+                first = isinstance(above, ast.Call) and name_of(above.func) in WALKERS and above.args[:1] == [node]
+                if not looped and not first:
+                    self.wrong(path, node, "L23")
+
+    def test_sets(self):
+        for path, node, above in below():
+            if isinstance(node, (ast.Set, ast.SetComp)) or isinstance(node, ast.Call) and name_of(node.func) == "set":
+                within = isinstance(above, ast.Call) and name_of(above.func) in ("sorted", "len")
+                if not within and not isinstance(above, (ast.Compare, ast.Assign)):
+                    self.wrong(path, node, "L24")
 
 
 if __name__ == "__main__":

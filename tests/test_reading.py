@@ -3,7 +3,7 @@
 import copy
 import unittest
 
-from plainly import chain, dice_of, full_world, ring_world, slowly, some_run, some_sentence, some_world
+from plainly import chain, dice_of, full_world, ring_world, slowly, some_run, some_sentence, some_world, somes_in
 from timecourt.cores import core_of
 from timecourt.reading import read, read_along
 from timecourt.runs import is_run
@@ -240,7 +240,7 @@ class Alike(unittest.TestCase):
             world = some_world(dice, 4)
             run = some_run(dice, world)
             core = core_of(some_sentence(dice, 4, words))
-            sets = [(some, [room for room in range(world.many()) if dice.randrange(2)]) for some in all_somes(core)]
+            sets = [(some, [room for room in range(world.many()) if dice.randrange(2)]) for some in somes_in(core)]
             dice.shuffle(sets)
             wanted = slowly(world, run, core, sets, 15)
             self.assertEqual(read_along(world, run, core, sets, 15), wanted, (run, core))
@@ -254,14 +254,6 @@ class Alike(unittest.TestCase):
         self.assertEqual(read_along(twenty, ([], rooms), ("until", B, A), [], 400), [True] * 400)
         self.assertEqual(read_along(twenty, ([], rooms), ("next", A), [], 400), [at % 20 == 18 for at in range(400)])
         self.assertEqual(read_along(twenty, (rooms[7:], rooms), ("since", B, A), [], 40), [at >= 12 for at in range(40)])
-
-
-def all_somes(core):
-    """The somes in a core, each once."""
-    if not isinstance(core, tuple):
-        return []
-    found = [some for one in core for some in all_somes(one)]
-    return list(dict.fromkeys(found + ([core] if core[:1] == ("some",) else [])))
 
 
 class FarOn(unittest.TestCase):
