@@ -307,3 +307,93 @@ def few_wishes(world, core, most=16):
         if world.many() * 2 ** len(SlowWishes(world, one, []).wishes) > most:
             return False
     return True
+
+
+def some_branch(dice, deep, quantifiers=("all", "some")):
+    """A sentence of branches [20]."""
+    if deep == 0 or dice.randrange(8) == 0:
+        return dice.choice([("yes",)] + [("sign", name) for name in NAMES] * 2)
+    word = dice.choice(("not", "and", "or") + tuple(quantifiers) * 3)
+    if word == "not":
+        return (word, some_branch(dice, deep - 1, quantifiers))
+    if word in ("and", "or"):
+        return (word, tuple(some_branch(dice, deep - 1, quantifiers) for _ in range(dice.choice((0, 1, 2, 2, 3)))))
+    way = dice.choice(("next", "until", "always", "ever", "within"))
+    inner = tuple(some_branch(dice, deep - 1, quantifiers) for _ in range(2 if way in ("until", "within") else 1))
+    return (word, (way,) + ((dice.randint(0, 3),) if way == "within" else ()) + inner)
+
+
+def slow_fair_rooms(world):
+    """The rooms where some fair way begins: from some room that is reached one gets round to each fair sign and back."""
+    net = {room: world.ways_on(room) for room in range(world.many())}
+    marks = {room: [sign in world.signs_of(room) for sign in world.fair_signs()] for room in range(world.many())}
+    return [room for room in range(world.many()) if has_full_loop(net, marks, [room])]
+
+
+def is_tie_by_words(one, other, pairs):
+    """[21] by its words."""
+    return all(one.signs_of(here) == other.signs_of(there)
+               and all(any((room, more) in pairs for more in other.ways_on(there)) for room in one.ways_on(here))
+               and all(any((room, more) in pairs for room in one.ways_on(here)) for more in other.ways_on(there))
+               for here, there in pairs)
+
+
+def slow_tie(one, other):
+    """The greatest tie: all pairs, and those away at which it is none, until it is one."""
+    pairs = {(here, there) for here in range(one.many()) for there in range(other.many())}
+    while True:
+        wrong = {(here, there) for here, there in pairs if not (
+            one.signs_of(here) == other.signs_of(there)
+            and all(any((room, more) in pairs for more in other.ways_on(there)) for room in one.ways_on(here))
+            and all(any((room, more) in pairs for room in one.ways_on(here)) for more in other.ways_on(there)))}
+        if not wrong:
+            return sorted(pairs)
+        pairs -= wrong
+
+
+def rooms_by_hand(world, core, known=None):
+    """The rooms where a core of yes, sign, not, and, some next is so, without fair signs; each part once."""
+    known = {} if known is None else known
+    if id(core) not in known:
+        word, *inner = core
+        rooms = set(range(world.many()))
+        if word == "sign":
+            rooms = {room for room in rooms if inner[0] in world.signs_of(room)}
+        elif word == "not":
+            rooms -= rooms_by_hand(world, inner[0], known)
+        elif word == "and":
+            one, other = inner[0]
+            rooms = rooms_by_hand(world, one, known) & rooms_by_hand(world, other, known)
+        elif word == "some":
+            assert inner[0][0] == "next" and len(inner[0]) == 2 and len(core) == 2, core
+            goal = rooms_by_hand(world, inner[0][1], known)
+            rooms = {room for room in rooms if goal & set(world.ways_on(room))}
+        else:
+            assert core == ("yes",), core
+        # The core is kept, too, so that no other one gets its id.
+        known[id(core)] = (rooms, core)
+    return known[id(core)][0]
+
+
+def unrolled(dice, world, most):
+    """A world that is alike: each room a few times, in any order, with ways to one or more of each room on."""
+    copies = [room for room in range(world.many()) for _ in range(dice.randint(1, most))]
+    dice.shuffle(copies)
+    copies = copies[:20] if set(copies[:20]) == set(range(world.many())) else list(range(world.many()))
+    ways = []
+    for room in copies:
+        on = []
+        for further in world.ways_on(room):
+            here = [at for at, one in enumerate(copies) if one == further]
+            on += dice.sample(here, dice.randint(1, len(here)))
+        ways.append(dice.sample(on, len(on)))
+    starts = [at for at, room in enumerate(copies) if room in world.begins()]
+    fair = dice.sample(world.fair_signs(), len(world.fair_signs()))
+    return World([world.signs_of(room) for room in copies], ways, starts, fair), copies
+
+
+def as_lists(world):
+    """All that a world tells."""
+    rooms = range(world.many())
+    return [[world.signs_of(room) for room in rooms], [world.ways_on(room) for room in rooms], world.begins(),
+            world.fair_signs()]

@@ -67,10 +67,18 @@ def within_of(turns, first, second):
     return whole
 
 
-class Table:
-    """Parts of cores, each once, with a number and a row of its own.
+def row_with(sentence, inner):
+    """A sentence with the numbers of those that stand straight in it in their place."""
+    if not inner:
+        return sentence
+    head = sentence[:2] if sentence[0] == "within" else sentence[:1]
+    return head + tuple(inner)
 
-    A row is a part with numbers in the place of what stands in it. Deep cores are told apart by their rows,
+
+class Table:
+    """Sentences, as a rule parts of cores, each once, with a number and a row of its own.
+
+    A row is a sentence with numbers in the place of what stands in it. Deep ones are told apart by their rows,
     as they are too deep to be keys, or to be compared, themselves.
     """
 
@@ -84,8 +92,7 @@ class Table:
         found = []
         for part in inner_ahead(core):
             inner = last_ones(found, len(inner_of(part)))
-            row = (part[0],) + tuple(inner) if inner else part
-            found.append(self.taken_in(part, row))
+            found.append(self.taken_in(part, row_with(part, inner)))
         return found[0]
 
     def taken_in(self, part, row):
