@@ -115,6 +115,31 @@ class Language(unittest.TestCase):
             if isinstance(node, ast.Attribute) and node.attr.startswith("_") and node.attr != "__init__":
                 self.wrong(path, node, f"L12: {node.attr}")
 
+    def test_locals_are_not_called_like_imports_or_classes(self):
+        for path, tree in trees():
+            taken = {name.name for node in tree.body if isinstance(node, ast.ImportFrom) for name in node.names}
+            taken |= {node.name for node in tree.body if isinstance(node, ast.ClassDef)}
+            for node in ast.walk(tree):
+                stored = isinstance(node, ast.Name) and isinstance(node.ctx, ast.Store) and node.id in taken
+                if stored or isinstance(node, ast.arg) and node.arg in taken:
+                    self.wrong(path, node, "L15")
+
+    def test_names_are_drawn_from_their_own_files_and_in_no_circle(self):
+        own = {path.stem: {getattr(node, "name", None) or node.targets[0].id for node in tree.body
+                           if isinstance(node, (ast.FunctionDef, ast.ClassDef, ast.Assign))} for path, tree in trees()}
+        drawn = {path.stem: set() for path in files()}
+        for path, node in nodes():
+            if isinstance(node, ast.ImportFrom) and node.module != "__future__":
+                stem = node.module.partition(".")[2]
+                drawn[path.stem].add(stem)
+                for name in node.names:
+                    self.assertIn(name.name, own[stem], f"{path.name}: L16")
+        while drawn:
+            free = [stem for stem in drawn if not drawn[stem] & set(drawn)]
+            self.assertTrue(free, f"L16: {sorted(drawn)}")
+            for stem in free:
+                del drawn[stem]
+
     def test_is_beside_none_true_false(self):
         for path, node in nodes():
             if isinstance(node, ast.Compare) and any(isinstance(sign, (ast.Is, ast.IsNot)) for sign in node.ops):
